@@ -1,0 +1,1 @@
+"""Floors sewn of squares, sheared and turned."""
