@@ -1,4 +1,4 @@
-"""Looks at the package's files by the rules of LANGUAGE.md that a program can see."""
+"""Looks at the package's files by a part of the rules of LANGUAGE.md: those that are named at each look."""
 
 import ast
 import builtins
