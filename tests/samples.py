@@ -1,6 +1,7 @@
 """Turnings, floors and looks at what is told, for all tests; made without the program's own functions."""
 
 from itertools import permutations
+from math import factorial
 
 ONE_SQUARE = ((0,), (0,))
 # Three squares in an L: 0 and 1 side by side, 2 above 0.
@@ -9,6 +10,11 @@ CORNERED = ((1, 0, 2), (2, 1, 0))
 FOUR = ((1, 2, 0, 3), (3, 2, 1, 0))
 LONG_ROW = tuple(range(1, 20)) + (0,)
 TWENTY_SQUARES = (LONG_ROW, tuple(reversed(range(20))))
+ONE_ROW = ((1, 2, 3, 0), (0, 1, 2, 3))
+ONE_COLUMN = ((0, 1, 2, 3), (1, 2, 3, 0))
+# A row of three squares, 0 to 2, and a column of three on square 0: 0, 3 and 4.
+ROW_WITH_COLUMN = ((1, 2, 0, 3, 4), (3, 1, 2, 4, 0))
+TWO_BY_TWO = ((1, 0, 3, 2), (2, 3, 0, 1))
 
 
 def all_turnings(count):
@@ -31,6 +37,78 @@ def all_floors(count):
 
 def small_floors():
     return [floor for count in (1, 2, 3, 4) for floor in all_floors(count)]
+
+
+def turning_of_rank(count, rank):
+    left = list(range(count))
+    turning = []
+    for size in range(count, 0, -1):
+        turning.append(left.pop(rank // factorial(size - 1) % size))
+    return tuple(turning)
+
+
+def spread_floors(count, tries):
+    """Floors of so many squares, spread over all there are; the same ones each time."""
+    pairs = [(turning_of_rank(count, k * 7919 + 13), turning_of_rank(count, k * 104729 + 7)) for k in range(tries)]
+    return [(right, up) for right, up in pairs if is_sewn(right, up)]
+
+
+def numbered_by_words(floor, s):
+    """A second way to number a floor, word by word as the document tells it."""
+    called = {s: 0}
+    by_number = {0: s}
+    for number in range(len(floor[0])):
+        for way in (0, 1):
+            reached = floor[way][by_number[number]]
+            if reached not in called:
+                by_number[len(called)] = reached
+                called[reached] = len(called)
+    rows = []
+    for way in (0, 1):
+        rows.append(tuple(called[floor[way][by_number[number]]] for number in range(len(called))))
+    return tuple(rows)
+
+
+def form_by_words(floor):
+    return min(numbered_by_words(floor, s) for s in range(len(floor[0])))
+
+
+def step_by_words(floor, letter, k):
+    """A second way to lead a floor by one step, square by square as the document tells it."""
+    right, up = floor
+    squares = range(len(right))
+    if letter == "t":
+        for _ in range(k):
+            right, up = tuple(up.index(s) for s in squares), right
+        return (right, up)
+    sheared = []
+    for s in squares:
+        for _ in range(abs(k)):
+            s = right.index(s) if k > 0 else right[s]
+        sheared.append(up[s])
+    return (right, tuple(sheared))
+
+
+def led_by_words(floor, word):
+    for letter, k in word:
+        floor = step_by_words(floor, letter, k)
+    return floor
+
+
+def is_word(thing):
+    """Whether a thing is of the form of words."""
+    if type(thing) is not tuple:
+        return False
+    for step in thing:
+        if type(step) is not tuple or len(step) != 2 or type(step[0]) is not str or type(step[1]) is not int:
+            return False
+        if not (step[0] == "s" and step[1] != 0 or step[0] == "t" and step[1] in (1, 2, 3)):
+            return False
+    return True
+
+
+def is_plain_word(thing):
+    return is_word(thing) and all(one[0] != other[0] for one, other in zip(thing, thing[1:]))
 
 
 def is_told_kind(thing):

@@ -1,36 +1,20 @@
 import unittest
 
 from samples import (
-    CORNERED, FOUR, LONG_ROW, ONE_SQUARE, TWENTY_SQUARES, all_floors, all_turnings, is_told_kind, small_floors,
+    CORNERED, FOUR, LONG_ROW, ONE_SQUARE, TWENTY_SQUARES, TWO_BY_TWO, all_floors, all_turnings, is_told_kind,
+    numbered_by_words, small_floors,
 )
 from shearfloor.anew import called_anew, callings, form_of, numbered_from
 from shearfloor.floors import look_floor
 from shearfloor.turnings import followed, turned_back
 
 RING_OF_FOUR = ((1, 2, 3, 0), (1, 2, 3, 0))
-TWO_BY_TWO = ((1, 0, 3, 2), (2, 3, 0, 1))
 
 
 def is_called(floor, p, other):
     """Whether the other is the floor with each square s called p's number at s, neighbour by neighbour."""
     squares = range(len(floor[0]))
     return all(other[way][p[s]] == p[floor[way][s]] for way in (0, 1) for s in squares)
-
-
-def numbered_by_words(floor, s):
-    """A second way to number a floor, word by word as the document tells it."""
-    called = {s: 0}
-    by_number = {0: s}
-    for number in range(len(floor[0])):
-        for way in (0, 1):
-            reached = floor[way][by_number[number]]
-            if reached not in called:
-                by_number[len(called)] = reached
-                called[reached] = len(called)
-    rows = []
-    for way in (0, 1):
-        rows.append(tuple(called[floor[way][by_number[number]]] for number in range(len(called))))
-    return tuple(rows)
 
 
 class CalledAnew(unittest.TestCase):
