@@ -15,6 +15,10 @@ ONE_COLUMN = ((0, 1, 2, 3), (1, 2, 3, 0))
 # A row of three squares, 0 to 2, and a column of three on square 0: 0, 3 and 4.
 ROW_WITH_COLUMN = ((1, 2, 0, 3, 4), (3, 1, 2, 4, 0))
 TWO_BY_TWO = ((1, 0, 3, 2), (2, 3, 0, 1))
+# Six squares, with 36 floors to which words lead, with 96 and with 120.
+OF_36_ROWS = ((5, 4, 2, 3, 0, 1), (3, 4, 0, 5, 1, 2))
+OF_96_ROWS = ((5, 4, 3, 1, 2, 0), (1, 5, 3, 2, 4, 0))
+OF_120_ROWS = ((5, 4, 3, 1, 0, 2), (4, 3, 1, 2, 0, 5))
 
 
 def all_turnings(count):
@@ -51,6 +55,19 @@ def spread_floors(count, tries):
     """Floors of so many squares, spread over all there are; the same ones each time."""
     pairs = [(turning_of_rank(count, k * 7919 + 13), turning_of_rank(count, k * 104729 + 7)) for k in range(tries)]
     return [(right, up) for right, up in pairs if is_sewn(right, up)]
+
+
+def is_called(floor, p, other):
+    """Whether the other is the floor with each square s called p's number at s, neighbour by neighbour."""
+    squares = range(len(floor[0]))
+    return all(other[way][p[s]] == p[floor[way][s]] for way in (0, 1) for s in squares)
+
+
+def round_by_words(floor, s):
+    """From a square right, up, left, down, as the document tells it."""
+    right, up = floor
+    s = up[right[s]]
+    return up.index(right.index(s))
 
 
 def numbered_by_words(floor, s):
@@ -93,6 +110,20 @@ def led_by_words(floor, word):
     for letter, k in word:
         floor = step_by_words(floor, letter, k)
     return floor
+
+
+def all_led(floor):
+    """The forms of all floors to which words lead the floor."""
+    found = {form_by_words(floor)}
+    left = list(found)
+    while left:
+        one = left.pop()
+        for letter in "st":
+            other = form_by_words(step_by_words(one, letter, 1))
+            if other not in found:
+                found.add(other)
+                left.append(other)
+    return found
 
 
 def is_word(thing):

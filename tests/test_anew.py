@@ -1,20 +1,14 @@
 import unittest
 
 from samples import (
-    CORNERED, FOUR, LONG_ROW, ONE_SQUARE, TWENTY_SQUARES, TWO_BY_TWO, all_floors, all_turnings, is_told_kind,
-    numbered_by_words, small_floors,
+    CORNERED, FOUR, LONG_ROW, ONE_SQUARE, TWENTY_SQUARES, TWO_BY_TWO, all_floors, all_turnings, is_called,
+    is_told_kind, numbered_by_words, small_floors,
 )
 from shearfloor.anew import called_anew, callings, form_of, numbered_from
 from shearfloor.floors import look_floor
 from shearfloor.turnings import followed, turned_back
 
 RING_OF_FOUR = ((1, 2, 3, 0), (1, 2, 3, 0))
-
-
-def is_called(floor, p, other):
-    """Whether the other is the floor with each square s called p's number at s, neighbour by neighbour."""
-    squares = range(len(floor[0]))
-    return all(other[way][p[s]] == p[floor[way][s]] for way in (0, 1) for s in squares)
 
 
 class CalledAnew(unittest.TestCase):

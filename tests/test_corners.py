@@ -3,7 +3,7 @@ from itertools import product
 
 from samples import (
     CORNERED, FOUR, ONE_COLUMN, ONE_ROW, ONE_SQUARE, ROW_WITH_COLUMN, TWENTY_SQUARES, TWO_BY_TWO, is_told_kind,
-    small_floors, spread_floors, turning_of_rank,
+    round_by_words, small_floors, spread_floors, turning_of_rank,
 )
 from shearfloor.anew import called_anew
 from shearfloor.corners import corners_of, holes_of, turns_of
@@ -11,13 +11,6 @@ from shearfloor.leading import led_by
 
 LARGER = spread_floors(5, 8) + spread_floors(6, 8) + spread_floors(7, 8) + spread_floors(8, 8)
 STEPS = (("s", 1), ("s", -1), ("t", 1), ("t", 2), ("t", 3), ("s", 4))
-
-
-def round_by_words(floor, s):
-    """From a square right, up, left, down, as the document tells it."""
-    right, up = floor
-    s = up[right[s]]
-    return up.index(right.index(s))
 
 
 def corners_by_words(floor):
