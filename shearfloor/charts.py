@@ -34,6 +34,11 @@ def row_led_to(forms, words, place, step):
     return forms.index(form)
 
 
+def row_turnings(chart):
+    """The turnings of the rows' numbers by which s and t lead from row to row, of a told chart."""
+    return (tuple([row[2] for row in chart]), tuple([row[3] for row in chart]))
+
+
 def chart_holds(floor, chart):
     """Whether the chart holds for the floor, whoever wrote it."""
     forms = [form_of(row[0]) for row in chart]

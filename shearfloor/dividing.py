@@ -1,7 +1,7 @@
-"""A table written as a word [12]."""
+"""A table written as a word, by dividing again and again [12]."""
 
 from shearfloor.errors import NoTable
-from shearfloor.tables import is_table, times
+from shearfloor.tables import is_table, led_pair, times
 from shearfloor.words import back_word, put_together, table_of
 
 
@@ -9,14 +9,20 @@ def word_of(table):
     """A plain word whose table it is, or NoTable of four numbers that are none."""
     if not is_table(table):
         raise NoTable()
+    gone = level_steps((table[0], table[2]))
+    return put_together(level_word(times(table_of(gone), table)), back_word(gone))
+
+
+def level_steps(pair):
+    """A word whose table leads the pair to one whose second number is 0."""
     gone = ()
-    left = table
-    # Each round brings the third number to its half or less, so that few rounds are gone.
-    while left[2] != 0:
-        steps = shears(-nearest(left[0], left[2])) + (("t", 1),)
-        left = times(table_of(steps), left)
+    left = pair
+    # Each round brings the second number to its half or less, so that few rounds are gone.
+    while left[1] != 0:
+        steps = shears(-nearest(left[0], left[1])) + (("t", 1),)
+        left = led_pair(table_of(steps), left)
         gone = gone + steps
-    return put_together(level_word(left), back_word(gone))
+    return gone
 
 
 def nearest(number, divisor):

@@ -6,15 +6,14 @@ from shearfloor.turnings import turned_back
 MOST_SQUARES = 20
 
 
+def step_turnings(floor):
+    """For each step, one of r, l, u, d, the turning that leads each square to its neighbour there."""
+    return {"r": floor[0], "l": turned_back(floor[0]), "u": floor[1], "d": turned_back(floor[1])}
+
+
 def neighbour(floor, s, step):
     """The square to which a step, one of r, l, u, d, leads from square s."""
-    if step == "r":
-        return floor[0][s]
-    if step == "l":
-        return turned_back(floor[0])[s]
-    if step == "u":
-        return floor[1][s]
-    return turned_back(floor[1])[s]
+    return step_turnings(floor)[step][s]
 
 
 def squares_from(floor, s):

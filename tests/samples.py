@@ -1,7 +1,7 @@
 """Turnings, floors and looks at what is told, for all tests; made without the program's own functions."""
 
 from itertools import permutations
-from math import factorial
+from math import factorial, gcd
 
 ONE_SQUARE = ((0,), (0,))
 # Three squares in an L: 0 and 1 side by side, 2 above 0.
@@ -19,6 +19,14 @@ TWO_BY_TWO = ((1, 0, 3, 2), (2, 3, 0, 1))
 OF_36_ROWS = ((5, 4, 2, 3, 0, 1), (3, 4, 0, 5, 1, 2))
 OF_96_ROWS = ((5, 4, 3, 1, 2, 0), (1, 5, 3, 2, 4, 0))
 OF_120_ROWS = ((5, 4, 3, 1, 0, 2), (4, 3, 1, 2, 0, 5))
+# Five and six squares; none of the floors to which words lead is brought back by a turn by half.
+OF_12_ROWS = ((0, 2, 1, 4, 3), (1, 2, 3, 0, 4))
+OF_20_ROWS = ((0, 1, 3, 2, 5, 4), (1, 2, 3, 4, 0, 5))
+OF_32_ROWS = ((0, 2, 1, 4, 3, 5), (1, 0, 3, 4, 5, 2))
+# A row of three, two rows of two on its first two squares, and a square on the upper one's first.
+STAIRS = ((1, 2, 0, 4, 3, 6, 5, 7), (3, 4, 2, 5, 6, 7, 1, 0))
+# Rows of one, three and four squares.
+UNLIKE_ROWS = ((0, 2, 3, 1, 5, 6, 7, 4), (1, 4, 2, 3, 0, 5, 6, 7))
 
 
 def all_turnings(count):
@@ -70,6 +78,41 @@ def round_by_words(floor, s):
     return up.index(right.index(s))
 
 
+def rows_by_words(floor):
+    """A dict of each square's row, as ring."""
+    rows = {}
+    for first in range(len(floor[0])):
+        if first not in rows:
+            ring = [first]
+            while floor[0][ring[-1]] != first:
+                ring.append(floor[0][ring[-1]])
+            for s in ring:
+                rows[s] = tuple(ring)
+    return rows
+
+
+def is_smooth_by_words(floor, row):
+    return all(round_by_words(floor, s) == s for s in row)
+
+
+def bands_by_words(floor):
+    """A second way to the bands: rows and upper rows are brought together till nothing changes, and then ordered."""
+    rows = rows_by_words(floor)
+    upper = {row: rows[floor[1][row[0]]] for row in rows.values() if is_smooth_by_words(floor, row)}
+    together = [{row} for row in set(rows.values())]
+    for row, above in upper.items():
+        one = [part for part in together if row in part or above in part]
+        together = [part for part in together if part not in one] + [set().union(*one)]
+    bands = []
+    for part in together:
+        lowest = [row for row in part if row not in upper.values()] or [rows[0]]
+        ordered = lowest[:1]
+        while len(ordered) < len(part):
+            ordered.append(upper[ordered[-1]])
+        bands.append((len(ordered[0]), len(ordered), tuple(ordered)))
+    return tuple(sorted(bands))
+
+
 def numbered_by_words(floor, s):
     """A second way to number a floor, word by word as the document tells it."""
     called = {s: 0}
@@ -112,6 +155,16 @@ def led_by_words(floor, word):
     return floor
 
 
+def walked_by_words(floor, s, steps):
+    """The squares of a ride, step by step as the document tells it."""
+    right, up = floor
+    squares = [s]
+    for step in steps:
+        s = {"r": right[s], "l": right.index(s), "u": up[s], "d": up.index(s)}[step]
+        squares.append(s)
+    return squares
+
+
 def all_led(floor):
     """The forms of all floors to which words lead the floor."""
     found = {form_by_words(floor)}
@@ -124,6 +177,56 @@ def all_led(floor):
                 found.add(other)
                 left.append(other)
     return found
+
+
+def table_by_words(word):
+    """A second way to a word's table: one quarter turn at a time."""
+    a, b, c, d = 1, 0, 0, 1
+    for letter, k in word:
+        if letter == "s":
+            a, b = a + k * c, b + k * d
+        for _ in range(k if letter == "t" else 0):
+            a, b, c, d = -c, -d, a, b
+    return (a, b, c, d)
+
+
+def word_by_other_division(table):
+    """A second way from a table to a word: divided with rests of the sign of what is divided; it needn't be plain."""
+    a, b, c, d = table
+    steps = []
+    while c:
+        k = abs(a) // abs(c) * (1 if a * c > 0 else -1)
+        a, b, c, d = c, d, k * c - a, k * d - b
+        steps = [("t", 1)] + ([("s", k)] if k else []) + steps
+    steps = ([("s", b * a)] if b else []) + steps
+    return tuple([("t", 2)] * (a < 0) + steps)
+
+
+def times_by_words(one, other):
+    (a, b, c, d), (e, f, g, h) = one, other
+    return (a * e + b * g, a * f + b * h, c * e + d * g, c * f + d * h)
+
+
+def undone_by_words(table):
+    a, b, c, d = table
+    return (d, -b, -c, a)
+
+
+def small_word(table):
+    """Steps that lead floors of at most six squares as the table does: 60 shears bring such rows back."""
+    word = word_by_other_division(table)
+    return [(letter, number % 60 if letter == "s" else number) for letter, number in word]
+
+
+def brings_back(floor, table):
+    """A second look at the group of a floor of at most six squares."""
+    return form_by_words(led_by_words(floor, small_word(table))) == form_by_words(floor)
+
+
+def slopes_to(bound):
+    """All slopes of numbers to the bound either way."""
+    pairs = [(a, c) for a in range(-bound, bound + 1) for c in range(1, bound + 1) if gcd(a, c) == 1]
+    return [(1, 0)] + pairs
 
 
 def is_word(thing):

@@ -1,8 +1,8 @@
 import unittest
 
 from samples import (
-    CORNERED, FOUR, OF_36_ROWS, ONE_COLUMN, ONE_ROW, ONE_SQUARE, ROW_WITH_COLUMN, TWO_BY_TWO, all_floors,
-    is_told_kind, led_by_words, round_by_words, small_floors, spread_floors,
+    CORNERED, FOUR, OF_36_ROWS, ONE_COLUMN, ONE_ROW, ONE_SQUARE, ROW_WITH_COLUMN, STAIRS, TWO_BY_TWO, all_floors,
+    bands_by_words, is_smooth_by_words, is_told_kind, led_by_words, rows_by_words, small_floors, spread_floors,
 )
 from shearfloor.bands import bands_of, is_smooth
 from shearfloor.corners import holes_of
@@ -10,8 +10,6 @@ from shearfloor.corners import holes_of
 LARGER = spread_floors(5, 40) + spread_floors(6, 40) + spread_floors(7, 40) + spread_floors(8, 40)
 # Two rows of three, the upper one sewn on to the lower one a place further on.
 TWISTED = ((1, 2, 0, 4, 5, 3), (3, 4, 5, 1, 2, 0))
-# A row of three, two rows of two on its first two squares, and two squares on the upper one's first.
-STAIRS = ((1, 2, 0, 4, 3, 6, 5, 7), (3, 4, 2, 5, 6, 7, 1, 0))
 LED = [led_by_words(floor, (("s", 1), ("t", 1), ("s", 2))) for floor in (STAIRS, ROW_WITH_COLUMN, TWISTED, OF_36_ROWS)]
 # Floors all of whose rows are smooth: so wide, so high, sewn on so far to the right.
 BLOCKS = [(width, height, shift) for width in range(1, 5) for height in range(1, 5) for shift in range(width)]
@@ -26,41 +24,6 @@ def block(width, height, shift):
             right.append(y * width + (x + 1) % width)
             up.append((y + 1) * width + x if y + 1 < height else (x + shift) % width)
     return (tuple(right), tuple(up))
-
-
-def rows_by_words(floor):
-    """A dict of each square's row, as ring."""
-    rows = {}
-    for first in range(len(floor[0])):
-        if first not in rows:
-            ring = [first]
-            while floor[0][ring[-1]] != first:
-                ring.append(floor[0][ring[-1]])
-            for s in ring:
-                rows[s] = tuple(ring)
-    return rows
-
-
-def is_smooth_by_words(floor, row):
-    return all(round_by_words(floor, s) == s for s in row)
-
-
-def bands_by_words(floor):
-    """A second way to the bands: rows and upper rows are brought together till nothing changes, and then ordered."""
-    rows = rows_by_words(floor)
-    upper = {row: rows[floor[1][row[0]]] for row in rows.values() if is_smooth_by_words(floor, row)}
-    together = [{row} for row in set(rows.values())]
-    for row, above in upper.items():
-        one = [part for part in together if row in part or above in part]
-        together = [part for part in together if part not in one] + [set().union(*one)]
-    bands = []
-    for part in together:
-        lowest = [row for row in part if row not in upper.values()] or [rows[0]]
-        ordered = lowest[:1]
-        while len(ordered) < len(part):
-            ordered.append(upper[ordered[-1]])
-        bands.append((len(ordered[0]), len(ordered), tuple(ordered)))
-    return tuple(sorted(bands))
 
 
 class IsSmooth(unittest.TestCase):

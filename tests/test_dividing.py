@@ -2,7 +2,7 @@ import unittest
 from itertools import product
 from math import gcd
 
-from samples import is_plain_word, is_told_kind
+from samples import is_plain_word, is_told_kind, table_by_words
 from shearfloor.dividing import word_of
 from shearfloor.errors import FloorError, NoTable
 from shearfloor.tables import is_table, times, undone
@@ -10,17 +10,6 @@ from shearfloor.words import table_of
 
 BOUND = 1000000
 SHEARS = (0, 1, 2, 3, 7, 1000, BOUND, -1, -2, -3, -7, -1000, -BOUND)
-
-
-def table_by_words(word):
-    """A second way to a word's table: one shear and one quarter turn at a time for what is left."""
-    a, b, c, d = 1, 0, 0, 1
-    for letter, k in word:
-        if letter == "s":
-            a, b = a + k * c, b + k * d
-        for _ in range(k if letter == "t" else 0):
-            a, b, c, d = -c, -d, a, b
-    return (a, b, c, d)
 
 
 def signed(a, b, c, d):

@@ -2,8 +2,9 @@ import unittest
 from itertools import product
 
 from samples import (
-    CORNERED, FOUR, ONE_COLUMN, ONE_ROW, ONE_SQUARE, ROW_WITH_COLUMN, TWO_BY_TWO, all_turnings, form_by_words,
-    is_told_kind, led_by_words, small_floors, spread_floors, step_by_words, turning_of_rank,
+    CORNERED, FOUR, ONE_COLUMN, ONE_ROW, ONE_SQUARE, ROW_WITH_COLUMN, TWO_BY_TWO, UNLIKE_ROWS, all_turnings,
+    form_by_words, is_told_kind, led_by_words, small_floors, spread_floors, step_by_words, turning_of_rank,
+    word_by_other_division,
 )
 from shearfloor.anew import called_anew, callings, form_of
 from shearfloor.dividing import word_of
@@ -15,8 +16,6 @@ from shearfloor.words import back_word, made_plain, put_together, table_of
 NAMED = [ONE_SQUARE, CORNERED, FOUR, ONE_ROW, ONE_COLUMN, ROW_WITH_COLUMN, TWO_BY_TWO]
 LARGER = spread_floors(5, 6) + spread_floors(6, 6) + spread_floors(7, 6) + spread_floors(8, 6)
 FLOORS = NAMED + LARGER
-# Rows of one, three and four squares.
-UNLIKE_ROWS = ((0, 2, 3, 1, 5, 6, 7, 4), (1, 4, 2, 3, 0, 5, 6, 7))
 STEPS = (("s", 1), ("s", -1), ("s", 2), ("t", 1), ("t", 2), ("t", 3))
 # Words that come to nothing, by their tables.
 NOTHING = (
@@ -37,18 +36,6 @@ LARGE_TABLES = (
     (514229, 317811, 832040, 514229), (1, 1000000, 0, 1), (-1000000, 1, -1, 0), (999999, 999998, 1000000, 999999),
     (-999999, 1000000, 999998, -999999), (0, -1, 1, 1000000), (1, 0, -1000000, 1),
 )
-
-
-def word_by_other_division(table):
-    """A second way from a table to a word: divided with rests of the sign of what is divided; it needn't be plain."""
-    a, b, c, d = table
-    steps = []
-    while c:
-        k = abs(a) // abs(c) * (1 if a * c > 0 else -1)
-        a, b, c, d = c, d, k * c - a, k * d - b
-        steps = [("t", 1)] + ([("s", k)] if k else []) + steps
-    steps = ([("s", b * a)] if b else []) + steps
-    return tuple([("t", 2)] * (a < 0) + steps)
 
 
 class Sheared(unittest.TestCase):
