@@ -26,19 +26,19 @@ def read_step(text):
     """The step of one letter and its number, else NoText."""
     letter = text[:1]
     number = text[1:]
-    if letter == "s" and is_shear_number(number):
+    if letter == "s" and is_number_but_nought(number, MOST_FIGURES):
         return (letter, int(number))
     if letter == "t" and number in QUARTERS:
         return (letter, int(number))
     raise NoText(0)
 
 
-def is_shear_number(text):
-    """Whether the text is a whole number but 0 as it is written."""
+def is_number_but_nought(text, most):
+    """Whether the text is a whole number but 0, written in at most so many figures."""
     figures = text
     if text.startswith("-"):
         figures = text[1:]
-    if len(figures) < 1 or len(figures) > MOST_FIGURES or figures[0] == "0":
+    if len(figures) < 1 or len(figures) > most or figures[0] == "0":
         return False
     # Python's own looks at figures let those of other scripts by.
     return all([figure in FIGURES for figure in figures])

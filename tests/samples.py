@@ -165,6 +165,106 @@ def walked_by_words(floor, s, steps):
     return squares
 
 
+def rim_by_words(floor, s):
+    """A square's rim, side by side as the document tells it."""
+    right, up = floor
+    count = len(right)
+    rim = [0] * (2 * count)
+    for side, number in ((s, 1), (count + right[s], 1), (up[s], -1), (count + s, -1)):
+        rim[side] += number
+    return tuple(rim)
+
+
+def sum_of_rims(floor, weights):
+    """The rims of all squares, each so many times, together."""
+    rims = [[weight * number for number in rim_by_words(floor, s)] for s, weight in enumerate(weights)]
+    return tuple(sum(numbers) for numbers in zip(*rims))
+
+
+def crossed_by_words(floor, s, steps, seam):
+    """How often a ride crosses a seam, step by step as the document tells it."""
+    right, up = floor
+    count = len(right)
+    total = 0
+    for square, step in zip(walked_by_words(floor, s, steps), steps):
+        if step == "r":
+            total += seam[count + right[square]]
+        elif step == "l":
+            total -= seam[count + square]
+        elif step == "u":
+            total -= seam[up[square]]
+        else:
+            total += seam[square]
+    return total
+
+
+def corner_names(floor):
+    """A dict of each square's four corners, ("ll", s), ("lr", s), ("ul", s), ("ur", s), to one name for each corner."""
+    right, up = floor
+    names = {(at, s): (at, s) for at in ("ll", "lr", "ul", "ur") for s in range(len(right))}
+    for s in range(len(right)):
+        sewn = (("lr", "ll", right), ("ur", "ul", right), ("ul", "ll", up), ("ur", "lr", up))
+        for at, other, way in sewn:
+            one, gone = names[at, s], names[other, way[s]]
+            names = {corner: one if name == gone else name for corner, name in names.items()}
+    return names
+
+
+def is_closed_by_words(floor, seam):
+    """A second look at a seam, corner by corner, the corners sewn together along sides."""
+    names = corner_names(floor)
+    count = len(floor[0])
+    left_over = {name: 0 for name in names.values()}
+    for s in range(count):
+        for begin, end, number in (("ll", "lr", seam[s]), ("ll", "ul", seam[count + s])):
+            left_over[names[begin, s]] -= number
+            left_over[names[end, s]] += number
+    return not any(left_over.values())
+
+
+def spread_numbers(count, bound, rank):
+    """So many numbers to the bound either way, the same ones each time."""
+    return [(rank * 7919 + (k + 1) * (k + rank + 3) * 104729) % (2 * bound + 1) - bound for k in range(count)]
+
+
+def closed_seams(floor, bound=5):
+    """Closed seams: noughts, rows' lower sides, columns' left sides, and these and rims some times together."""
+    count = len(floor[0])
+    seams = [(0,) * (2 * count)]
+    rows = sorted(set(rows_by_words(floor).values()))
+    columns = sorted(set(rows_by_words((floor[1], floor[0])).values()))
+    rings = [[s for s in row] for row in rows] + [[count + s for s in column] for column in columns]
+    seams += [tuple(int(side in ring) for side in range(2 * count)) for ring in rings]
+    for rank in range(3):
+        numbers = spread_numbers(len(rings), bound, rank)
+        rims = sum_of_rims(floor, spread_numbers(count, bound, rank + 7))
+        whole = [rims[side] + sum(k for k, ring in zip(numbers, rings) if side in ring) for side in range(2 * count)]
+        seams.append(tuple(whole))
+    return seams
+
+
+def way_back(floor, s):
+    """Steps that lead from square s to square 0."""
+    ways = {s: ""}
+    left = [s]
+    while 0 not in ways:
+        square = left.pop(0)
+        for step in "rlud":
+            reached = walked_by_words(floor, square, step)[-1]
+            if reached not in ways:
+                ways[reached] = ways[square] + step
+                left.append(reached)
+    return ways[0]
+
+
+def closed_rides(floor):
+    """Closed rides from square 0."""
+    rides = ["", "r" * len(rows_by_words(floor)[0]), "u" * len(rows_by_words((floor[1], floor[0]))[0])]
+    for steps in ("ru", "rrul", "uldd", "ldruurdl", "drdrululuurr", "rruuddlllurd"):
+        rides.append(steps + way_back(floor, walked_by_words(floor, 0, steps)[-1]))
+    return rides
+
+
 def all_led(floor):
     """The forms of all floors to which words lead the floor."""
     found = {form_by_words(floor)}
