@@ -37,6 +37,8 @@ BARRED = (
     "license locals methodcaller os quit setattr super type vars sys chr"
 ).split()
 PYTHONS_OWN = [name for name in vars(builtins) if not name.startswith("_")]
+KINDS_OWN = [name for kind in (str, int, list, tuple, dict, set, bytes) for name in dir(kind)]
+FREE_VALUES = "count index title find get join lower upper split strip copy add".split()
 WALKED = ("zip", "enumerate", "reversed", "range", "items", "keys", "values")
 WALKERS = ("list", "tuple", "dict", "sorted", "sum", "any", "all", "enumerate", "zip", "min", "max")
 
@@ -207,6 +209,29 @@ def own_methods_of(trees):
     return [part.name for node in classes for part in node.body if isinstance(part, ast.FunctionDef)]
 
 
+def values_of(node):
+    """The names of the values that a class's methods give to self."""
+    stored = [part for part in ast.walk(node) if isinstance(part, ast.Attribute) and isinstance(part.ctx, ast.Store)]
+    return [part.attr for part in stored if isinstance(part.value, ast.Name) and part.value.id == "self"]
+
+
+def look_classes(trees):
+    """L18, L26, L28: methods and values of all classes together."""
+    classes = [node for tree in trees for node in ast.walk(tree) if isinstance(node, ast.ClassDef)]
+    methods = [name for name in own_methods_of(trees) if name not in SPECIAL]
+    values = [name for node in classes for name in values_of(node)]
+    amiss = [("L18", name) for name in methods if name in values]
+    amiss += [("L26", name) for name in methods if name in KINDS_OWN and name not in METHODS + ["add", "discard"]]
+    amiss += [("L26", name) for name in values if name in KINDS_OWN + ["args"] and name not in FREE_VALUES]
+    for node in classes:
+        names = [part.name for part in node.body if isinstance(part, ast.FunctionDef)]
+        amiss += [("L18", name) for name in names if names.count(name) > 1]
+        for part in node.body:
+            if isinstance(part, ast.FunctionDef) and part.name == "__init__":
+                amiss += [("L28", node.name) for row in ast.walk(part) if isinstance(row, ast.Return)]
+    return amiss
+
+
 def look_source(source, name="file", own_methods=()):
     tree = ast.parse(source)
     return (
@@ -234,6 +259,9 @@ class Language(unittest.TestCase):
         own_methods = own_methods_of([ast.parse(source) for source in self.sources.values()])
         for name, source in self.sources.items():
             self.assertEqual(look_source(source, name, own_methods), [], name)
+
+    def test_classes_keep_to_the_rules(self):
+        self.assertEqual(look_classes([ast.parse(source) for source in self.sources.values()]), [])
 
     def test_names_are_drawn_from_the_file_that_defines_them(self):
         for source in self.sources.values():
@@ -264,6 +292,15 @@ class Language(unittest.TestCase):
         )
         for source in outside:
             self.assertNotEqual(look_source(source), [], source)
+        classes = (
+            "class A:\n    def __init__(self):\n        self.items = 1\n",
+            "class A:\n    def __init__(self):\n        return None\n",
+            "class A:\n    def sort(self):\n        return 1\n",
+            "class A:\n    def say(self):\n        self.say = 1\n",
+            "class A:\n    def say(self):\n        return 1\n\n    def say(self):\n        return 2\n",
+        )
+        for source in classes:
+            self.assertNotEqual(look_classes([ast.parse(source)]), [], source)
 
 
 if __name__ == "__main__":
